@@ -1,0 +1,1 @@
+"""Shortsteps: shapes of grids by two and three steps."""

@@ -1,0 +1,61 @@
+"""The interface of stages 1 and 2: names, arguments, and where they are defined."""
+
+import importlib
+import inspect
+import unittest
+
+INTERFACE = {
+    "grids": {
+        "is_point": ["thing"], "is_steps": ["thing"], "product": ["one", "other"],
+        "room": ["steps"], "reached": ["steps", "numbers"],
+        "numbers_of": ["steps", "point"], "is_same": ["steps", "other"],
+    },
+    "texts": {"show": ["steps"], "read": ["text"]},
+    "short": {
+        "is_short": ["pair"], "is_moves": ["thing"], "moved": ["pair", "moves"],
+        "moves_for": ["pair"], "short_pair": ["pair"], "least_points": ["pair"],
+    },
+}
+
+ERRORS = [
+    "NoSteps", "NoPair", "NoPoint", "NoNumber", "NoMoves", "NoShape", "NoKeeper",
+    "NoThree", "NoFour", "NoPart", "NoText", "NoLine",
+]
+
+
+class InterfaceTest(unittest.TestCase):
+
+    def test_functions_stand_in_their_files(self):
+        for file, functions in INTERFACE.items():
+            module = importlib.import_module("shortsteps." + file)
+            for name, arguments in functions.items():
+                with self.subTest(file=file, name=name):
+                    function = getattr(module, name)
+                    self.assertTrue(inspect.isfunction(function))
+                    self.assertEqual(function.__module__, "shortsteps." + file)
+                    self.assertEqual(function.__name__, name)
+                    self.assertEqual(list(inspect.signature(function).parameters), arguments)
+
+    def test_5_each_error_stands_straight_under_step_error(self):
+        errors = importlib.import_module("shortsteps.errors")
+        self.assertEqual(errors.StepError.__bases__, (ValueError,))
+        self.assertEqual(errors.StepError.__module__, "shortsteps.errors")
+        for name in ERRORS:
+            with self.subTest(name=name):
+                kind = getattr(errors, name)
+                self.assertEqual(kind.__bases__, (errors.StepError,))
+                self.assertEqual(kind.__module__, "shortsteps.errors")
+                self.assertEqual(kind.__name__, name)
+
+    def test_errors_are_made_of_a_text(self):
+        errors = importlib.import_module("shortsteps.errors")
+        for name in ERRORS + ["StepError"]:
+            with self.subTest(name=name):
+                kind = getattr(errors, name)
+                with self.assertRaises(ValueError) as caught:
+                    raise kind("some text")
+                self.assertIs(type(caught.exception), kind)
+
+
+if __name__ == "__main__":
+    unittest.main()
