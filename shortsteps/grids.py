@@ -48,6 +48,12 @@ def need_point(thing, width):
         raise NoPoint("this is no point of the width that is needed")
 
 
+def need_number(thing, least, greatest):
+    """Refuse what is no whole number from the least one to the greatest one."""
+    if not is_whole(thing) or thing < least or thing > greatest:
+        raise NoNumber("this is no whole number as it is asked for")
+
+
 def determinant(steps):
     """The determinant of two or three points."""
     if len(steps) == 2:
@@ -71,6 +77,11 @@ def product(one, other):
 def length(point):
     """The product of a point with itself."""
     return product(point, point)
+
+
+def opposite(point):
+    """A point with each number below nought for above."""
+    return tuple([-number for number in point])
 
 
 def room(steps):

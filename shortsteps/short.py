@@ -1,7 +1,7 @@
 """Pairs led by moves to short ones, and the least points of their grids."""
 
 from shortsteps.errors import NoMoves
-from shortsteps.grids import is_whole, length, need_pair, product, reached
+from shortsteps.grids import is_whole, length, need_pair, opposite, product, reached
 
 
 def is_short(pair):
@@ -43,7 +43,7 @@ def done(pair, move):
     if move[0] == "turn":
         return (second, first)
     if move[0] == "about":
-        return (first, tuple([-number for number in second]))
+        return (first, opposite(second))
     return (first, less_times(second, move[1], first))
 
 

@@ -1,4 +1,4 @@
-"""The interface of stages 1 and 2: names, arguments, and where they are defined."""
+"""The interface of stages 1 to 6: names, arguments, and where they are defined."""
 
 import importlib
 import inspect
@@ -14,6 +14,25 @@ INTERFACE = {
     "short": {
         "is_short": ["pair"], "is_moves": ["thing"], "moved": ["pair", "moves"],
         "moves_for": ["pair"], "short_pair": ["pair"], "least_points": ["pair"],
+    },
+    "shapes": {
+        "products": ["pair"], "shape": ["pair"], "is_shape": ["thing"],
+        "is_leading": ["thing", "pair", "other"], "leading": ["pair", "other"],
+        "is_ahead": ["one", "other"], "room_squared": ["shape"],
+    },
+    "turns": {
+        "is_keeper": ["thing", "pair"], "keepers": ["pair"],
+        "behind": ["pair", "one", "other"], "undoing": ["pair", "keeper"],
+        "often": ["pair", "keeper"], "mirrors_many": ["pair"],
+    },
+    "points": {
+        "many_of": ["pair", "number"], "up_to": ["pair", "number"],
+        "nearest_length": ["pair", "point"], "nearest": ["pair", "point"],
+    },
+    "threes": {
+        "is_four": ["thing", "steps"], "is_blunt": ["steps", "four"],
+        "folded": ["steps", "four", "folds"], "folds_for": ["steps"],
+        "blunt_four": ["steps"], "least_of_three": ["steps"],
     },
 }
 

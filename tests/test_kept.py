@@ -3,11 +3,21 @@
 import copy
 import unittest
 
-from shortsteps.errors import NoMoves, NoText, StepError
+from shortsteps.errors import NoFour, NoMoves, NoNumber, NoPoint, NoText, StepError
 from shortsteps.grids import is_point, is_same, is_steps, numbers_of, product, reached, room
+from shortsteps.points import many_of, nearest, nearest_length, up_to
+from shortsteps.shapes import (
+    is_ahead, is_leading, is_shape, leading, products, room_squared, shape)
 from shortsteps.short import is_moves, is_short, least_points, moved, moves_for, short_pair
 from shortsteps.texts import read, show
+from shortsteps.threes import blunt_four, folded, folds_for, is_blunt, is_four, least_of_three
+from shortsteps.turns import behind, is_keeper, keepers, mirrors_many, often, undoing
 from tests.things import BIG, PAIRS, STRANGE, THREES, Case
+
+UNIT = ((1, 0), (0, 1))
+FOUR = ((1, 0, 0), (0, 1, 0), (0, 0, 1), (-1, -1, -1))
+# These may be led by folds: their numbers are not too great.
+NARROW = [steps for steps in THREES if all(abs(n) < 1000 for step in steps for n in step)]
 
 
 def answer(function, *arguments):
@@ -40,6 +50,25 @@ class HandedInTest(Case):
             self.stays(is_same, PAIRS[2], thing)
             self.stays(moved, PAIRS[2], thing)
 
+    def test_4_things_of_whatever_kind_stay_in_later_stages(self):
+        for thing in STRANGE:
+            for function in (products, shape, is_shape, room_squared, keepers, mirrors_many,
+                             folds_for, blunt_four, least_of_three):
+                self.stays(function, thing)
+            for function in (leading, is_ahead, is_keeper, is_leading, undoing, often, many_of,
+                             up_to, nearest, nearest_length, is_four, is_blunt):
+                last = (UNIT,) if function is is_leading else ()
+                self.stays(function, thing, thing, *last)
+                self.stays(function, thing, UNIT, *last)
+                self.stays(function, UNIT, thing, *last)
+            for steps in (UNIT, FOUR[:3]):
+                self.stays(is_four, thing, steps)
+                self.stays(is_blunt, steps, thing)
+                self.stays(behind, UNIT, steps, thing)
+                self.stays(folded, steps, FOUR, thing)
+                self.stays(folded, steps, FOUR, [thing])
+                self.stays(folded, steps, thing, thing)
+
     def test_4_steps_stay(self):
         for steps in PAIRS + THREES:
             for function in (is_steps, room, show, is_short, moves_for, short_pair, least_points):
@@ -54,6 +83,38 @@ class HandedInTest(Case):
                           moves_for(pair)]:
                 self.stays(moved, pair, moves)
                 self.stays(is_moves, moves)
+
+    def test_4_folds_stay(self):
+        for steps in NARROW:
+            four = steps + (tuple(-sum(numbers) for numbers in zip(*steps)),)
+            for folds in [[], [(0, 1)], [(2, 3), (3, 2), (1, 0)], folds_for(steps)]:
+                self.stays(folded, steps, four, folds)
+            self.stays(is_four, list(four), steps)
+
+    def test_4_changed_folds_are_asked_anew(self):
+        folds = []
+        self.assertEqual(folded(FOUR[:3], FOUR, folds), FOUR)
+        folds.append((0, 1))
+        told = folded(FOUR[:3], FOUR, folds)
+        before = copy.deepcopy(told)
+        self.assertEqual(told, ((-1, 0, 0), (0, 1, 0), (1, 0, 1), (0, -1, -1)))
+        folds.append((0, 0))
+        self.refused(NoMoves, folded, FOUR[:3], FOUR, folds)
+        self.assertEqual(told, before)
+        folds[:] = [(1, 0)]
+        self.assertEqual(
+            folded(FOUR[:3], FOUR, folds), ((1, 0, 0), (0, -1, 0), (0, 1, 1), (-1, 0, -1)))
+
+    def test_4_a_changed_thing_is_asked_anew(self):
+        thing = [(1, 0), (0, 1)]
+        self.assertIs(is_keeper(thing, UNIT), False)
+        self.assertIs(is_keeper(tuple(thing), UNIT), True)
+        thing[0] = (2, 0)
+        self.assertIs(is_keeper(tuple(thing), UNIT), False)
+        self.assertIs(is_leading(tuple(thing), UNIT, UNIT), False)
+        thing = [2, 1, 2]
+        self.assertIs(is_shape(thing), False)
+        self.assertIs(is_shape(tuple(thing)), True)
 
     def test_4_what_is_done_to_moves_later_changes_nothing_told(self):
         moves = [("turn",), ("less", 2)]
@@ -80,25 +141,33 @@ class HandedInTest(Case):
 
 class ToldTest(Case):
 
-    def is_new_each_time(self, function, pair):
-        with self.subTest(function=function.__name__, pair=pair):
-            told = function(pair)
+    def is_new_each_time(self, function, *arguments):
+        with self.subTest(function=function.__name__, arguments=arguments):
+            told = function(*arguments)
             before = list(told)
-            self.assertIsNot(function(pair), told)
+            self.assertIsNot(function(*arguments), told)
             told.append("anything")
             told.insert(0, None)
-            self.assertEqual(function(pair), before)
+            self.assertEqual(function(*arguments), before)
             told.clear()
-            self.assertEqual(function(pair), before)
-            again = function(pair)
+            self.assertEqual(function(*arguments), before)
+            again = function(*arguments)
             again.reverse()
             again.extend([1, 2, 3])
-            self.assertEqual(function(pair), before)
+            self.assertEqual(function(*arguments), before)
 
     def test_4_a_list_that_was_told_is_the_askers_own(self):
         for pair in PAIRS:
             self.is_new_each_time(moves_for, pair)
             self.is_new_each_time(least_points, pair)
+            self.is_new_each_time(keepers, pair)
+            for number in (0, 1, 60):
+                self.is_new_each_time(up_to, pair, number)
+            for point in [(0, 0), (1, 3), (-BIG, 7)]:
+                self.is_new_each_time(nearest, pair, point)
+        for steps in NARROW + [((999, 1, 0), (1, 0, 0), (3, -998, 1))]:
+            self.is_new_each_time(folds_for, steps)
+            self.is_new_each_time(least_of_three, steps)
 
     def test_4_what_is_done_to_a_list_changes_no_other_answer(self):
         for pair in PAIRS:
@@ -114,6 +183,37 @@ class ToldTest(Case):
             self.assertEqual(short_pair(pair), short)
             self.assertEqual(least_points(short), least)
             self.assertEqual(moves_for(pair), moves[:-2])
+
+    def test_4_what_is_done_to_a_list_changes_no_answer_of_another_kind(self):
+        pair = UNIT
+        before = (mirrors_many(pair), many_of(pair, 25), nearest_length(pair, (3, 4)))
+        for told in [keepers(pair), up_to(pair, 25), up_to(pair, 60), nearest(pair, (3, 4))]:
+            told[:] = [((7, 7), (7, 7)), (9, 9)]
+        self.assertEqual(
+            (mirrors_many(pair), many_of(pair, 25), nearest_length(pair, (3, 4))), before)
+        for steps in NARROW:
+            four, least = blunt_four(steps), least_of_three(steps)
+            folds_for(steps).append((0, 1))
+            spoilt = least_of_three(steps)
+            spoilt[0] = (0, 0, 0)
+            self.assertEqual(blunt_four(steps), four)
+            self.assertEqual(least_of_three(steps), least)
+            self.assertEqual(least_of_three(four[:3]), least)
+
+    def test_4_a_later_refusal_changes_nothing(self):
+        pair, steps = PAIRS[2], FOUR[:3]
+
+        def answers():
+            return (shape(pair), leading(pair, pair), keepers(pair), up_to(pair, 60),
+                    nearest(pair, (1, 1)), folds_for(steps), blunt_four(steps),
+                    least_of_three(steps))
+
+        before = answers()
+        self.refused(NoNumber, up_to, pair, 61)
+        self.refused(NoPoint, nearest, pair, (1, 1, 1))
+        self.refused(NoFour, folded, steps, FOUR[:3], [(0, 1)])
+        self.refused(NoMoves, folded, steps, FOUR, [(0, 1), (1, 1)])
+        self.assertEqual(answers(), before)
 
     def test_4_a_refusal_changes_nothing(self):
         pair = PAIRS[2]

@@ -6,11 +6,10 @@ from shortsteps.errors import NoMoves, NoNumber, NoPair, NoPoint, NoSteps
 from shortsteps.grids import is_same, numbers_of, product, reached, room
 from shortsteps.short import is_short, least_points, moved, moves_for, short_pair
 from shortsteps.texts import show
-from tests.things import BIG, PAIRS, STRANGE, THREES, Case
+from tests.things import BIG, PAIRS, POINTS, STRANGE, THREES, Case
 
 PAIR = ((3, 1), (-2, 4))
 THREE = ((1, 1, 0), (1, 0, 1), (0, 1, 1))
-POINTS = [(1, 2), (1, 2, 3), (0, 0)]
 NO_MOVES = [
     None, (), (("turn",),), ("turn",), [["turn"]], [("less",)], [("less", True)], ["turn"],
     [("less", None)], [("turn",), ("turn", 1)], [("more", 1)], "turn", {}, 3, [()], [None]]

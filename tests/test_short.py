@@ -5,12 +5,7 @@ import unittest
 
 from shortsteps.grids import is_same, is_steps
 from shortsteps.short import is_moves, is_short, least_points, moved, moves_for, short_pair
-from tests.things import BIG, PAIRS, STRANGE, THREES, Case, lies_in, remainders, small_pairs
-
-
-def dot(one, other):
-    """A product, found apart from the program."""
-    return sum(a * b for a, b in zip(one, other))
+from tests.things import BIG, PAIRS, STRANGE, THREES, Case, dot, lies_in, remainders, small_pairs
 
 
 def short_by_words(pair):

@@ -36,6 +36,8 @@ STRANGE = [
     [({"a": [(None, "b")]},)], ((((1, 0), (0, 1)),),), [((1, 0), (0, 1))],
 ]
 
+POINTS = [(1, 2), (1, 2, 3), (0, 0)]
+
 # Of width two and three, plain and less so; all are steps.
 PAIRS = [
     ((1, 0), (0, 1)), ((0, 1), (1, 0)), ((3, 1), (-2, 4)), ((2, 0), (1, 1)),
@@ -49,6 +51,11 @@ THREES = [
     ((-2, 0, 0), (0, -3, 0), (0, 0, -5)),
     ((BIG, 1, 0), (0, BIG, 1), (1, 0, BIG)), ((1, 0, 0), (BIG, 1, 0), (-BIG, BIG, 1)),
 ]
+
+
+def is_int(thing, *numbers):
+    """Whether a thing is one of these numbers, and neither True nor False."""
+    return type(thing) is int and thing in numbers
 
 
 def small_pairs(least, greatest):
@@ -80,6 +87,69 @@ def det(steps):
         (a, b), (c, d) = steps
         return a * d - b * c
     return det_of_three(steps)
+
+
+def dot(one, other):
+    """A product, found apart from the program."""
+    return sum(a * b for a, b in zip(one, other))
+
+
+def plane(reach):
+    """The points about nought, so far to each side, rising."""
+    return list(itertools.product(range(-reach, reach + 1), repeat=2))
+
+
+def grid_points(pair, reach):
+    """The points of a pair's grid about nought, found apart from the program, rising."""
+    (a, b), (c, d) = pair
+    whole = a * d - b * c
+    return [
+        (x, y) for x, y in plane(reach)
+        if (x * d - y * c) % whole == 0 and (a * y - b * x) % whole == 0]
+
+
+def changed(steps, way):
+    """Each row of a way tells how often the steps are taken for a new one."""
+    return tuple(
+        tuple(sum(n * step[at] for n, step in zip(row, steps)) for at in range(len(steps)))
+        for row in way)
+
+
+def products_by_words(pair):
+    """The products of a pair, found apart from the program."""
+    first, second = pair
+    return (dot(first, first), dot(first, second), dot(second, second))
+
+
+def shape_by_words(pair):
+    """The shape of a pair, found apart from the program: by its products alone."""
+    a, b, c = products_by_words(pair)
+    while True:
+        k = (2 * b + a) // (2 * a)
+        b, c = b - k * a, c - 2 * k * b + k * k * a
+        if a <= c:
+            return (a, abs(b), c)
+        a, c = c, a
+
+
+def climb(many):
+    """A way whose numbers grow with each of so many turns."""
+    way = ((1, 0), (0, 1))
+    for turn in range(many):
+        way = (way[1], tuple(x + (turn % 3 + 1) * y for x, y in zip(*way)))
+    return way
+
+
+# Ways from one pair of a grid to another one: their determinant is 1 or -1.
+# Steps of few figures become such of thirteen, and of thirty.
+WAYS = [
+    ((1, 0), (9876543210987, 1)), ((1, -8765432109873), (0, 1)), ((0, 1), (1, 7654321098765)),
+    ((-1, 0), (5000000000000, 1)), climb(35), changed(climb(31), ((0, -1), (1, 3))),
+]
+GREAT_WAYS = [
+    ((1, 0), (10 ** 28 + 7, 1)), ((3 - 10 ** 28, -1), (1, 0)), climb(79),
+    changed(climb(73), ((0, 1), (-1, 7))),
+]
 
 
 def remainders(steps):
