@@ -1,4 +1,4 @@
-"""The interface of stages 1 to 6: names, arguments, and where they are defined."""
+"""The interface: names, arguments, and where they are defined."""
 
 import importlib
 import inspect
@@ -34,6 +34,19 @@ INTERFACE = {
         "folded": ["steps", "four", "folds"], "folds_for": ["steps"],
         "blunt_four": ["steps"], "least_of_three": ["steps"],
     },
+    "parts": {
+        "flat": ["pair"], "is_part": ["one", "other"], "times_of": ["one", "other"],
+        "parts_of": ["pair", "number"], "both_have": ["one", "other"],
+        "both_make": ["one", "other"],
+    },
+    "forms": {
+        "taken_at": ["shape", "number"], "shapes_of": ["number"], "is_fine": ["shape"],
+        "takers": ["number", "taken"],
+    },
+    "changes": {
+        "grown": ["pair", "number"], "turned": ["pair"], "mirrored": ["pair"],
+        "keeps_turned": ["pair"], "keeps_mirrored": ["pair"], "mates": ["pair"],
+    },
 }
 
 ERRORS = [
@@ -54,6 +67,15 @@ class InterfaceTest(unittest.TestCase):
                     self.assertEqual(function.__module__, "shortsteps." + file)
                     self.assertEqual(function.__name__, name)
                     self.assertEqual(list(inspect.signature(function).parameters), arguments)
+
+    def test_the_desk_stands_in_its_file(self):
+        desk = importlib.import_module("shortsteps.desk").Desk
+        self.assertTrue(inspect.isclass(desk))
+        self.assertEqual(desk.__module__, "shortsteps.desk")
+        self.assertEqual(desk.__name__, "Desk")
+        self.assertEqual(list(inspect.signature(desk).parameters), [])
+        self.assertTrue(inspect.isfunction(vars(desk)["say"]))
+        self.assertEqual(list(inspect.signature(desk.say).parameters), ["self", "line"])
 
     def test_5_each_error_stands_straight_under_step_error(self):
         errors = importlib.import_module("shortsteps.errors")

@@ -3,8 +3,12 @@
 import copy
 import unittest
 
+from shortsteps.changes import grown, keeps_mirrored, keeps_turned, mates, mirrored, turned
+from shortsteps.desk import Desk
 from shortsteps.errors import NoFour, NoMoves, NoNumber, NoPoint, NoText, StepError
+from shortsteps.forms import is_fine, shapes_of, taken_at, takers
 from shortsteps.grids import is_point, is_same, is_steps, numbers_of, product, reached, room
+from shortsteps.parts import both_have, both_make, flat, is_part, parts_of, times_of
 from shortsteps.points import many_of, nearest, nearest_length, up_to
 from shortsteps.shapes import (
     is_ahead, is_leading, is_shape, leading, products, room_squared, shape)
@@ -68,6 +72,32 @@ class HandedInTest(Case):
                 self.stays(folded, steps, FOUR, thing)
                 self.stays(folded, steps, FOUR, [thing])
                 self.stays(folded, steps, thing, thing)
+
+    def test_4_things_of_whatever_kind_stay_in_the_last_stages(self):
+        for thing in STRANGE:
+            for function in (flat, shapes_of, is_fine, turned, mirrored, keeps_turned,
+                             keeps_mirrored, mates):
+                self.stays(function, thing)
+            for function in (is_part, times_of, both_have, both_make, parts_of, grown, taken_at,
+                             takers):
+                self.stays(function, thing, thing)
+                self.stays(function, thing, UNIT)
+                self.stays(function, UNIT, thing)
+                self.stays(function, thing, 2)
+                self.stays(function, (2, 1, 2), thing)
+            before = copy.deepcopy(thing)
+            answer(Desk().say, thing)
+            self.assertEqual(thing, before)
+
+    def test_4_pairs_stay_in_the_last_stages(self):
+        for pair in PAIRS:
+            for function in (flat, turned, mirrored, keeps_turned, keeps_mirrored, mates):
+                self.stays(function, pair)
+            for function in (is_part, times_of, both_have, both_make):
+                self.stays(function, pair, PAIRS[2])
+                self.stays(function, PAIRS[2], pair)
+            self.stays(parts_of, pair, 6)
+            self.stays(grown, pair, 6)
 
     def test_4_steps_stay(self):
         for steps in PAIRS + THREES:
@@ -168,6 +198,48 @@ class ToldTest(Case):
         for steps in NARROW + [((999, 1, 0), (1, 0, 0), (3, -998, 1))]:
             self.is_new_each_time(folds_for, steps)
             self.is_new_each_time(least_of_three, steps)
+
+    def test_4_a_list_that_was_told_is_the_askers_own_in_the_last_stages(self):
+        for pair in PAIRS:
+            for number in (1, 2, 12):
+                self.is_new_each_time(parts_of, pair, number)
+            for number in (0, 1, 200):
+                self.is_new_each_time(taken_at, shape(pair), number)
+        for number in (1, 3, 12, 195, 200):
+            self.is_new_each_time(shapes_of, number)
+            for taken in (1, 2, 4, 200):
+                self.is_new_each_time(takers, number, taken)
+
+    def test_4_what_is_done_to_a_list_changes_no_answer_of_the_last_stages(self):
+        pair, form = PAIRS[2], (10, 2, 20)
+
+        def answers():
+            return (flat(pair), both_have(pair, UNIT), both_make(pair, pair), mates(pair),
+                    is_fine(form), parts_of(pair, 4), takers(196, 10), takers(12, 4),
+                    taken_at(form, 10), shapes_of(196), shapes_of(12), shape(pair))
+
+        before = copy.deepcopy(answers())
+        for told in [parts_of(pair, 4), parts_of(pair, 1), taken_at(form, 10), shapes_of(196),
+                     shapes_of(12), takers(196, 10), takers(12, 4)]:
+            told[:] = [(9, 9), ((7, 7), (7, 7)), (2, 0, 2)]
+        self.assertEqual(answers(), before)
+        told = answers()
+        for one in told:
+            if isinstance(one, list):
+                one.clear()
+        self.assertEqual(answers(), before)
+
+    def test_4_what_is_done_to_a_list_changes_no_desk(self):
+        desk = Desk()
+        desk.say("pair 3,1 -2,4")
+        before = [desk.say(line) for line in ("least", "near 1,1", "keepers", "flat", "many 10")]
+        pair = read(desk.say("told"))
+        for told in [least_points(pair), nearest(pair, (1, 1)), keepers(pair), up_to(pair, 10)]:
+            told.append((5, 5))
+            told.reverse()
+        self.assertEqual(
+            [desk.say(line) for line in ("least", "near 1,1", "keepers", "flat", "many 10")],
+            before)
 
     def test_4_what_is_done_to_a_list_changes_no_other_answer(self):
         for pair in PAIRS:
